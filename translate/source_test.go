@@ -2,7 +2,6 @@ package translate
 
 import (
 	"math/rand"
-	"reflect"
 	"slices"
 	"strings"
 	"testing"
@@ -10,6 +9,7 @@ import (
 	"sixdot/admit"
 	"sixdot/api"
 	"sixdot/automaton"
+	"sixdot/internal/sample"
 	"sixdot/readback"
 	"sixdot/table"
 )
@@ -20,58 +20,9 @@ const (
 	few   = "aab1"
 )
 
-// maker makes rules by chance: of so many modes and kinds of cells, and of some characters.
-type maker struct {
-	*rand.Rand
-	modes, kinds int
-	characters   string
-}
-
-// mask returns a mask, most often that of all classes.
-func (m maker) mask() uint8 {
-	if m.Intn(4) > 0 {
-		return 63
-	}
-	return uint8(1 + m.Intn(63))
-}
-
-// rule returns a sound rule.
-func (m maker) rule() api.Rule {
-	r := between(m.mask(), m.mask(), modes(m.Intn(m.modes), m.Intn(m.modes), ""))
-	if m.Intn(12) == 0 {
-		r.Print, r.Cells = []string{" ", "\xa0"}[m.Intn(2)], cells(1, 0)
-		return r
-	}
-	for range []int{0, 0, 1, 1, 1, 2, 2, 3, 4}[m.Intn(9)] {
-		k := m.Intn(len(m.characters))
-		r.Print += m.characters[k : k+1]
-	}
-	for range 1 + m.Intn(4)*m.Intn(2) {
-		r.Cells = append(r.Cells, api.Cell(1+m.Intn(m.kinds)))
-	}
-	return r
-}
-
-// table returns a valid table of up to so many rules.
-func (m maker) table(rules int) api.Table {
-	x := code(m.modes, uint8(1+m.Intn(1<<m.modes-1)))
-	for range rules {
-		x = with(x, m.rule())
-	}
-	return x
-}
-
-// with returns a table with a further rule at its end, and the table itself if it has an equal one or no room.
-func with(x api.Table, r api.Rule) api.Table {
-	for _, y := range x.Rules {
-		if reflect.DeepEqual(y, r) {
-			return x
-		}
-	}
-	if len(x.Rules) < api.MaxRules {
-		x.Rules = append(slices.Clip(x.Rules), r)
-	}
-	return x
+// maker returns a maker of rules and tables by chance: of so many modes and kinds of cells, and of some characters.
+func maker(random *rand.Rand, modes, kinds int, characters string) sample.Maker {
+	return sample.Maker{Pick: random.Intn, Modes: modes, Kinds: kinds, Characters: characters}
 }
 
 // small returns tables of few rules.
@@ -79,7 +30,7 @@ func small(seed int64, n int) []api.Table {
 	random := rand.New(rand.NewSource(seed))
 	all := valid()
 	for i := range n {
-		all = append(all, maker{random, 1 + i%3, 2 + i%3, few}.table(3+i%6))
+		all = append(all, maker(random, 1+i%3, 2+i%3, few).Table(3+i%6))
 	}
 	return all
 }
@@ -89,7 +40,7 @@ func large(seed int64, n int) []api.Table {
 	random := rand.New(rand.NewSource(seed))
 	var all []api.Table
 	for i := range n {
-		all = append(all, maker{random, 1 + i%8, 62, mixed}.table(12+i%53))
+		all = append(all, maker(random, 1+i%8, 62, mixed).Table(12+i%53))
 	}
 	return all
 }
@@ -105,32 +56,11 @@ func TestRandomTablesAreValid(t *testing.T) {
 
 // randomText returns what some rules print that are chosen by chance, with a character changed by chance in some texts.
 func randomText(random *rand.Rand, x api.Table, rules int) string {
-	var path []int
-	s := automaton.Start()
-	for range rules {
-		for _, rule := range random.Perm(len(x.Rules)) {
-			if next, ok := automaton.Step(x, s, rule); ok {
-				path, s = append(path, rule), next
-				break
-			}
-		}
-	}
-	text := []byte(automaton.Run(x, path).Text)
+	text := []byte(sample.Printed(x, rules, random.Perm))
 	if len(text) > 0 && random.Intn(4) == 0 {
 		text[random.Intn(len(text))] = mixed[random.Intn(len(mixed))]
 	}
 	return string(text)
-}
-
-// texts returns all texts of up to n characters of some.
-func texts(characters string, n int) []string {
-	all := []string{""}
-	for i := 0; len(all[i]) < n; i++ {
-		for k := range len(characters) {
-			all = append(all, all[i]+characters[k:k+1])
-		}
-	}
-	return all
 }
 
 // lists returns all paths of a text that write at most n cells, in increasing order, and the greatest place that rules reach with so many cells.
@@ -177,7 +107,7 @@ func TestAllLists(t *testing.T) {
 	const n = 5
 	written, refused, several := 0, 0, 0
 	for _, x := range small(3, 800) {
-		for _, s := range texts("ab1", 3) {
+		for _, s := range sample.Texts("ab1", 3) {
 			paths, greatest := lists(x, s, n)
 			w, at, e := Write(x, s)
 			switch {
@@ -410,7 +340,7 @@ func TestMoreRules(t *testing.T) {
 		s := randomText(random, x, 2+i%12)
 		for range 8 {
 			w, at, e := Write(x, s)
-			y := with(x, maker{random, x.Modes, 5, few}.rule())
+			y := sample.With(x, maker(random, x.Modes, 5, few).Rule())
 			v, now, f := Write(y, s)
 			switch {
 			case e == api.OK && (f != api.OK || len(v.Cells) > len(w.Cells) || !Writes(y, w, s)):
@@ -439,7 +369,7 @@ func TestParts(t *testing.T) {
 	for i := range 400 {
 		x := code(1, 1)
 		for range 3 + i%40 {
-			x = with(x, between(63, 63, maker{random, 1, 62, few}.rule()))
+			x = sample.With(x, between(63, 63, maker(random, 1, 62, few).Rule()))
 		}
 		for k := range 6 {
 			a, b := randomText(random, x, k), randomText(random, x, 5-k+i%4)

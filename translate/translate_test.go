@@ -9,59 +9,15 @@ import (
 
 	"sixdot/api"
 	"sixdot/automaton"
+	"sixdot/internal/sample"
 	"sixdot/table"
 )
 
-// rule returns a rule of the mode 0 without conditions.
-func rule(print string, cells ...api.Cell) api.Rule {
-	return api.Rule{Print: print, Cells: cells, Left: 63, Right: 63}
-}
-
-// modes returns a rule without conditions that leads from a mode to a mode.
-func modes(from, to int, print string, cells ...api.Cell) api.Rule {
-	r := rule(print, cells...)
-	r.From, r.To = from, to
-	return r
-}
-
-// between returns a rule between characters of some classes.
-func between(left, right uint8, r api.Rule) api.Rule {
-	r.Left, r.Right = left, right
-	return r
-}
-
-// code returns a table of some modes, those of the mask accept being accepting ones.
-func code(n int, accept uint8, rules ...api.Rule) api.Table {
-	return api.Table{Modes: n, Accept: accept, Rules: rules}
-}
-
-// numbers returns the table of the examples of layer 3: a letter, a sign ahead of digits, a digit, and a space behind it.
-func numbers() api.Table {
-	return code(2, 3, rule("a", 1), between(63, 8, modes(0, 1, "", 60)), modes(1, 1, "1", 1), modes(1, 0, " ", 0))
-}
-
-// short returns the second table of the chapter's examples.
-func short() api.Table {
-	return code(1, 1, rule("a", 1), rule("b", 3), rule("ab", 7))
-}
-
-// capitals returns a table in which a capital letter needs a sign, and several ones a longer sign for all of them.
-func capitals() api.Table {
-	return code(2, 3, rule("a", 1), between(63, 4, modes(0, 1, "", 32, 32)), rule("A", 32, 1), modes(1, 1, "A", 1), modes(1, 0, "", 32, 4), modes(1, 0, " ", 0), rule(" ", 0))
-}
-
-// chain returns a table in which a text begins in mode 0, ends in mode 7, and is printed in mode 4; signs lead from each mode to the next one, in the order of the rules or against it.
-func chain(back bool) api.Table {
-	x := code(8, 128)
-	for m := range 7 {
-		x.Rules = append(x.Rules, modes(m, m+1, "", 1))
-	}
-	if back {
-		slices.Reverse(x.Rules)
-	}
-	x.Rules = append(x.Rules, modes(4, 4, "a", 3))
-	return x
-}
+// The tables of these tests, and what they are made of.
+var (
+	rule, modes, between, code      = sample.Rule, sample.Modes, sample.Between, sample.Code
+	numbers, short, capitals, chain = sample.Numbers, sample.Short, sample.Capitals, sample.Chain
+)
 
 // cells returns n equal cells.
 func cells(n int, c api.Cell) []api.Cell {
