@@ -397,32 +397,11 @@ func TestArgumentsStay(t *testing.T) {
 	}
 }
 
-// invalid returns tables that are not valid.
-func invalid() []api.Table {
-	wild := []api.Rule{
-		{}, {Print: "a", Left: 63, Right: 63}, {Left: 255, Right: 255}, {Print: "b", Cells: []api.Cell{}, Left: 255, Right: 255},
-		{Left: 63, Right: 63, To: 1}, {Left: 63, Right: 63, From: 1},
-		{Print: "\x00\xff", Cells: cells(1, 1), Left: 255, Right: 255, To: math.MaxInt}, {Print: "ab", Cells: cells(1, 1), Left: 63, Right: 63, To: 9},
-		{Print: "a", Cells: cells(1, 1), Left: 255, Right: 255, From: 9}, {Cells: cells(1, 255), Left: 255, Right: 255, To: -1},
-		{Print: strings.Repeat("a", 1000), Cells: make([]api.Cell, 1000), Left: 255, Right: 255, From: math.MinInt},
-	}
-	var all []api.Table
-	for _, m := range []int{math.MinInt, -1, 0, 1, 2, 8, 9, math.MaxInt} {
-		for _, accept := range []uint8{0, 1, 2, 255} {
-			all = append(all, code(m, accept), code(m, accept, wild...), code(m, accept, slices.Repeat(wild, 20)...))
-			for _, r := range wild {
-				all = append(all, code(m, accept, r), code(m, accept, r, rule("a", 1)), code(m, accept, rule("a", 1), r))
-			}
-		}
-	}
-	return all
-}
-
 // P1: no function panics or fails to end, for any tables, writings and texts; with a table that is not valid, nothing is written.
 func TestNoPanic(t *testing.T) {
 	texts := []string{"", "a", "ab", "aa", "b", "\x00", "\xff", "a\x00\xff", strings.Repeat("a", 1000), strings.Repeat("\x00\xff", 100)}
 	paths := [][]int{nil, {0}, {1, 1}, {0, 0, 0}, {2, -1}, {math.MinInt, math.MaxInt}, slices.Repeat([]int{0}, 1000), slices.Repeat([]int{2}, 1000)}
-	for _, x := range append(invalid(), valid()...) {
+	for _, x := range append(sample.Invalid(), valid()...) {
 		for _, s := range texts {
 			w, n, e := Write(x, s)
 			if Cost(x, s) != len(w.Cells) && e == api.OK || n < 0 || n > len(s) {

@@ -2,7 +2,9 @@
 package sample
 
 import (
+	"math"
 	"slices"
+	"strings"
 
 	"sixdot/api"
 	"sixdot/automaton"
@@ -68,6 +70,28 @@ func With(x api.Table, r api.Rule) api.Table {
 		x.Rules = append(slices.Clip(x.Rules), r)
 	}
 	return x
+}
+
+// Invalid returns tables that are not valid: with numbers of modes that are, or are not, and with rules that write no cells or too many, print too much or no characters, or lead from modes or to modes that there are not.
+func Invalid() []api.Table {
+	wild := []api.Rule{
+		{}, {Print: "a", Left: 63, Right: 63}, {Left: 255, Right: 255}, {Print: "b", Cells: []api.Cell{}, Left: 255, Right: 255},
+		{Left: 63, Right: 63, To: 1}, {Left: 63, Right: 63, From: 1},
+		{Print: "\x00\xff", Cells: []api.Cell{1}, Left: 255, Right: 255, To: math.MaxInt}, {Print: "ab", Cells: []api.Cell{1}, Left: 63, Right: 63, To: 9},
+		{Print: "a", Cells: []api.Cell{1}, Left: 255, Right: 255, From: 9}, {Cells: []api.Cell{255}, Left: 255, Right: 255, To: -1},
+		{Print: "c", Cells: make([]api.Cell, 5), Left: 63, Right: 63}, {Print: "aaaaa", Cells: []api.Cell{1, 1}, Left: 63, Right: 63},
+		{Print: strings.Repeat("a", 1000), Cells: make([]api.Cell, 1000), Left: 255, Right: 255, From: math.MinInt},
+	}
+	var all []api.Table
+	for _, m := range []int{math.MinInt, -1, 0, 1, 2, 8, 9, math.MaxInt} {
+		for _, accept := range []uint8{0, 1, 2, 255} {
+			all = append(all, Code(m, accept), Code(m, accept, wild...), Code(m, accept, slices.Repeat(wild, 20)...))
+			for _, r := range wild {
+				all = append(all, Code(m, accept, r), Code(m, accept, r, Rule("a", 1)), Code(m, accept, Rule("a", 1), r))
+			}
+		}
+	}
+	return all
 }
 
 // Maker makes rules and tables by choice.

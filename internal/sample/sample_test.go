@@ -31,6 +31,15 @@ func TestTables(t *testing.T) {
 	}
 }
 
+// No table of those that are not valid is valid.
+func TestInvalid(t *testing.T) {
+	for _, x := range Invalid() {
+		if table.Valid(x) {
+			t.Errorf("a table is valid: %+v", x)
+		}
+	}
+}
+
 // Rules print texts, in the order in which they are tried; texts are made of some characters.
 func TestTexts(t *testing.T) {
 	up := func(n int) []int {
